@@ -1,0 +1,1 @@
+"""Hushduel: games of two who do not see all, reckoned in fractions."""
