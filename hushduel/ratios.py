@@ -3,6 +3,7 @@
 from hushduel.errors import NoNumber, NoText
 
 NOUGHT = (0, 1)
+ONE = (1, 1)
 FIGURES = "0123456789"
 MOST_FIGURES = 30
 

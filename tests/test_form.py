@@ -16,9 +16,9 @@ NAMES_OF_PYTHON = set(
     " OverflowError RuntimeError NotImplementedError AttributeError StopIteration".split()
 )
 METHODS = set(
-    "append clear copy count endswith extend find get index insert isalnum isalpha isdigit islower isspace isupper items join"
-    " keys ljust lower lstrip partition pop remove replace reverse rfind rjust rpartition rsplit rstrip setdefault split"
-    " splitlines startswith strip update upper values zfill bit_length".split()
+    "append clear copy count endswith extend find get index insert isalnum isalpha isdigit islower isspace isupper items"
+    " join keys ljust lower lstrip partition pop remove replace reverse rfind rjust rpartition rsplit rstrip setdefault"
+    " split splitlines startswith strip update upper values zfill bit_length".split()
 )
 WORDS = (
     "type typing typing_extensions enum Enum IntEnum StrEnum Flag IntFlag Generic Protocol ABC ABCMeta namedtuple NamedTuple"
@@ -32,6 +32,9 @@ OUT = (
     ast.Set, ast.SetComp, ast.DictComp, ast.GeneratorExp, ast.NamedExpr, ast.Starred, ast.Div, ast.MatMult,
     ast.Await, ast.Yield, ast.YieldFrom,
 )
+WALKED = ("zip", "enumerate", "reversed", "range")
+WALKERS = "list tuple dict sorted sum any all enumerate zip min max join".split()
+CHANGES = "append clear extend insert pop remove reverse setdefault update".split()
 TOPS = (ast.ImportFrom, ast.FunctionDef, ast.ClassDef, ast.Assign)
 
 
@@ -45,6 +48,16 @@ def trees():
 
 def nodes():
     return [(name, node) for name, tree in trees() for node in ast.walk(tree)]
+
+
+def called(call):
+    """The bare name of what is called."""
+    return call.func.attr if isinstance(call.func, ast.Attribute) else ast.unparse(call.func)
+
+
+def calls_within(tree):
+    """Each call of a file with what stands straight around it."""
+    return [(inner, node) for node in ast.walk(tree) for inner in ast.iter_child_nodes(node) if isinstance(inner, ast.Call)]
 
 
 def bound_names(tree):
@@ -211,6 +224,60 @@ class Inside(unittest.TestCase):
         for name, node in nodes():
             if isinstance(node, ast.Call) and isinstance(node.func, ast.Attribute):
                 self.assertIn(node.func.attr, METHODS | own, name)
+
+    def test_walked_at_once(self):
+        for name, tree in trees():
+            for call, around in calls_within(tree):
+                if called(call) in WALKED or called(call) in ("items", "keys", "values"):
+                    told = f"{name}: {ast.unparse(around)}"
+                    if isinstance(around, (ast.For, ast.comprehension)):
+                        self.assertIs(around.iter, call, told)
+                    else:
+                        self.assertIsInstance(around, ast.Call, told)
+                        self.assertIn(called(around), WALKERS, told)
+
+    def test_what_a_loop_walks_is_not_changed_in_it(self):
+        for name, node in nodes():
+            if isinstance(node, ast.For):
+                walked = {ast.unparse(part) for part in ast.walk(node.iter) if isinstance(part, (ast.Name, ast.Attribute))}
+                for inner in [each for row in node.body for each in ast.walk(row)]:
+                    if isinstance(inner, ast.Call) and called(inner) in CHANGES:
+                        self.assertNotIn(ast.unparse(inner.func.value), walked, f"{name}: {ast.unparse(inner)}")
+                    if isinstance(inner, ast.Subscript) and isinstance(inner.ctx, ast.Store):
+                        self.assertNotIn(ast.unparse(inner.value), walked, f"{name}: {ast.unparse(inner)}")
+
+    def test_sets_are_asked_on_the_spot(self):
+        for name, tree in trees():
+            for call, around in calls_within(tree):
+                if called(call) in ("set", "frozenset"):
+                    told = f"{name}: {ast.unparse(around)}"
+                    asked = isinstance(around, ast.Call) and called(around) in ("sorted", "len")
+                    self.assertTrue(asked or isinstance(around, ast.Compare), told)
+
+    def test_no_name_is_a_method_and_a_value(self):
+        methods = set()
+        kept = set()
+        for name, node in nodes():
+            if isinstance(node, ast.ClassDef):
+                methods |= {inner.name for inner in node.body if isinstance(inner, ast.FunctionDef)}
+            if isinstance(node, ast.Attribute) and isinstance(node.ctx, ast.Store):
+                self.assertIsInstance(node.value, ast.Name, f"{name}: {ast.unparse(node)}")
+                kept.add(node.attr)
+        self.assertEqual(methods & kept, set())
+        taken = set(dir(str) + dir(int) + dir(list) + dir(dict) + dir(set) + dir(bytes) + dir(tuple))
+        self.assertEqual((methods | kept) & taken - {"__init__"}, set())
+
+    def test_no_power_but_a_written_one(self):
+        for name, node in nodes():
+            if isinstance(node, (ast.BinOp, ast.AugAssign)) and isinstance(node.op, ast.Pow):
+                self.assertIsInstance(node.right, ast.Constant, name)
+
+    def test_keywords(self):
+        let_by = {"sorted": {"key", "reverse"}, "min": {"key", "default"}, "max": {"key", "default"}, "sum": {"start"}}
+        for name, node in nodes():
+            if isinstance(node, ast.Call):
+                used = {keyword.arg for keyword in node.keywords}
+                self.assertLessEqual(used, let_by.get(called(node), set()), f"{name}: {ast.unparse(node)}")
 
     def test_python_errors_are_not_taken_wide(self):
         for name, node in nodes():
