@@ -11,7 +11,9 @@ from hushduel.seeking import solve
 MOST_OF_BOTH = 7
 
 
-def refuse_not_small(ones, twos):
+def refuse_not_small(game):
+    ones = rows_of(game, 1)
+    twos = rows_of(game, 2)
     if len(ones) + count_words(twos) > MOST_OF_BOTH or len(twos) + count_words(ones) > MOST_OF_BOTH:
         raise TooGreat("the game is not small")
 
@@ -73,16 +75,25 @@ def seeking_of(ones, twos, amounts):
     return (rows, bounds, wish)
 
 
-def balance(game):
-    ones = rows_of(game, 1)
-    twos = rows_of(game, 2)
-    refuse_not_small(ones, twos)
+def seeking_in(game, ones, twos):
     amounts = {}
     gather_amounts(game, ONE, (None, None), lowest_stake(game), amounts)
-    sought = seeking_of(ones, twos, amounts)
+    return seeking_of(ones, twos, amounts)
+
+
+# The weights stand in the order of the rows' pairs.
+def plan_of_list(rows, weights):
+    return plan_of_weights(rows, dict(zip(pairs_of(rows), weights)))
+
+
+def balance(game):
+    refuse_not_small(game)
+    ones = rows_of(game, 1)
+    twos = rows_of(game, 2)
+    sought = seeking_in(game, ones, twos)
     found = solve(sought[0], sought[1], sought[2])
-    one = plan_of_weights(ones, dict(zip(pairs_of(ones), found[1])))
-    two = plan_of_weights(twos, dict(zip(pairs_of(twos), found[2][len(ones):])))
+    one = plan_of_list(ones, found[1])
+    two = plan_of_list(twos, found[2][len(ones):])
     return (held(game, 1, one), one, two)
 
 

@@ -59,6 +59,11 @@ def branches_of(game):
     return [branch for lead, branch in game[-1]]
 
 
+# The deal or move with other branches.
+def with_ways(game, ways):
+    return game[:-1] + (tuple(ways),)
+
+
 # A list of what is still to be judged, not a call within a call: a thing may be nested as deep as it likes.
 def is_game(thing):
     waiting = [thing]

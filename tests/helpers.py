@@ -6,6 +6,7 @@ from fractions import Fraction
 LEAF = ("end", (0, 1))
 HALF = (1, 2)
 ONE = (1, 1)
+WORDS = "abcdef"
 # Whatever is no text, no list, no dict, no tuple of use.
 STRANGE = [None, True, False, 0, 1, -3, (), (1, 2), [], ["a"], {1, 2}, frozenset("a"), b"a", object(), str, len, range(2)]
 
@@ -178,6 +179,33 @@ def sound_games(source, count, depth, wanted=is_let_by):
     return found
 
 
+def at_once(stakes):
+    """Both sides choose at once: row by side 1, column by side 2."""
+    rows = {WORDS[row]: {WORDS[place]: end(stake) for place, stake in enumerate(line)} for row, line in enumerate(stakes)}
+    return move(1, "row", **{word: move(2, "place", **line) for word, line in rows.items()})
+
+
+def ending(source, side, seen, count):
+    return move(side, seen, **{word: end(source.randint(-9, 9)) for word in WORDS[:count]})
+
+
+def names(source, first, second):
+    """A game that deals first to whom it is to move: names with so many words each of side 1, then of side 2."""
+    behind = [ending(source, 1, "n" + str(number), count) for number, count in enumerate(first)]
+    behind += [ending(source, 2, "n" + str(number), count) for number, count in enumerate(second)]
+    return evenly("d", *behind)
+
+
+def crossed(source, first, second):
+    """Side 1 sees one of its names, side 2 then one of its own, each pair of them dealt alike."""
+    behind = []
+    for number, count in enumerate(first):
+        for other, width in enumerate(second):
+            inner = {word: ending(source, 2, "t" + str(other), width) for word in WORDS[:count]}
+            behind.append(move(1, "o" + str(number), **inner))
+    return evenly("d", *behind)
+
+
 # Two coins laid at once: the second side does not see what the first one laid.
 PENNIES = move(
     1, "one",
@@ -205,3 +233,8 @@ CHANCE = deal("die", (Fraction(1, 3), end(6)), (Fraction(2, 3), evenly("coin", e
 LONE = move(1, "only", a=end(1), b=end(3), c=end(2))
 LONE_TWO = evenly("coin", move(2, "only", a=end(1), b=end(-3)), move(2, "only", a=end(2), b=end(Fraction(9, 2))))
 WRITTEN = [LEAF, PENNIES, POKER, TWICE, CHANCE, LONE, LONE_TWO]
+FOUR_PENNIES = evenly("d", *[
+    move(1, "one" + str(number), heads=move(2, "two" + str(number), heads=end(1), tails=end(-1)),
+         tails=move(2, "two" + str(number), heads=end(-1), tails=end(1)))
+    for number in range(4)
+])

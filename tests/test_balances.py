@@ -10,48 +10,13 @@ from hushduel.errors import NoPlan, TooGreat
 from hushduel.games import turned
 from hushduel.plans import is_plan
 from tests.helpers import (
-    CHANCE, HALF, LEAF, LONE, LONE_TWO, ONE, PENNIES, POKER, STRANGE, TWICE, WRITTEN, Maker, a_plan, both_sums, deal, end,
-    evenly, is_let_by, is_small, move, pair, pure, slow_held, sound_games, walk,
+    CHANCE, FOUR_PENNIES, HALF, LEAF, LONE, LONE_TWO, ONE, PENNIES, POKER, STRANGE, TWICE, WRITTEN, Maker, a_plan, at_once,
+    both_sums, crossed, deal, end, evenly, is_let_by, is_small, names, pair, pure, slow_held, sound_games, walk,
 )
 
 NOUGHT = (0, 1)
 THIRD = (1, 3)
-WORDS = "abcdef"
-
-
-def at_once(stakes):
-    """Both sides choose at once: row by side 1, column by side 2."""
-    rows = {WORDS[row]: {WORDS[place]: end(stake) for place, stake in enumerate(line)} for row, line in enumerate(stakes)}
-    return move(1, "row", **{word: move(2, "place", **line) for word, line in rows.items()})
-
-
-def ending(source, side, seen, count):
-    return move(side, seen, **{word: end(source.randint(-9, 9)) for word in WORDS[:count]})
-
-
-def names(source, first, second):
-    """A game that deals first to whom it is to move: names with so many words each of side 1, then of side 2."""
-    behind = [ending(source, 1, "n" + str(number), count) for number, count in enumerate(first)]
-    behind += [ending(source, 2, "n" + str(number), count) for number, count in enumerate(second)]
-    return evenly("d", *behind)
-
-
-def crossed(source, first, second):
-    """Side 1 sees one of its names, side 2 then one of its own, each pair of them dealt alike."""
-    behind = []
-    for number, count in enumerate(first):
-        for other, width in enumerate(second):
-            inner = {word: ending(source, 2, "t" + str(other), width) for word in WORDS[:count]}
-            behind.append(move(1, "o" + str(number), **inner))
-    return evenly("d", *behind)
-
-
 PAPER = at_once([[0, -1, 1], [1, 0, -1], [-1, 1, 0]])
-FOUR_PENNIES = evenly("d", *[
-    move(1, "one" + str(number), heads=move(2, "two" + str(number), heads=end(1), tails=end(-1)),
-         tails=move(2, "two" + str(number), heads=end(-1), tails=end(1)))
-    for number in range(4)
-])
 
 
 class Balances(unittest.TestCase):
