@@ -75,11 +75,8 @@ def refuse_great_places(game):
     places = places_of(game)
     if len(places) > MOST_PLACES:
         raise TooGreat("the game has too many places")
-    for way, place in places:
-        if len(way) > MOST_BRANCHES:
-            raise TooGreat("a way of the game is too long")
-        if any([is_great(fraction) for fraction in fractions_at(place)]):
-            raise TooGreat("a fraction of the game is too great")
+    if any([len(way) > MOST_BRANCHES for way, place in places]):
+        raise TooGreat("a way of the game is too long")
 
 
 def refuse_great_table(game):
@@ -89,6 +86,18 @@ def refuse_great_table(game):
             raise TooGreat("a side sees too many names")
         if count_words(rows) > MOST_WORDS_SEEN:
             raise TooGreat("a side has too many words")
+
+
+# All that makes a game too great but its fractions.
+def refuse_great_shape(game):
+    refuse_great_places(game)
+    refuse_great_table(game)
+
+
+def refuse_great_fractions(game):
+    for way, place in places_of(game):
+        if any([is_great(fraction) for fraction in fractions_at(place)]):
+            raise TooGreat("a fraction of the game is too great")
 
 
 def are_shares(shares):
@@ -115,7 +124,7 @@ def refuse_unsound(game):
 
 
 def look(game):
-    refuse_great_places(game)
-    refuse_great_table(game)
+    refuse_great_shape(game)
+    refuse_great_fractions(game)
     refuse_unsound(game)
     return table_of(game)

@@ -151,10 +151,9 @@ class Maker:
 
 
 def is_let_by(game):
-    places = list(walk(game))
-    rows = slow_table(game)
-    if len(places) > 64:
+    if len(list(itertools.islice(walk(game), 65))) > 64:
         return False
+    rows = slow_table(game)
     return all(
         sum(row[0] == side for row in rows) <= 8 and sum(len(row[2]) for row in rows if row[0] == side) <= 24
         for side in (1, 2)
